@@ -1,0 +1,1 @@
+"""Knowcards: a table at which some know what others do not."""
