@@ -3,72 +3,8 @@
 import unittest
 
 from knowcards.sayings import is_saying, of_cards_alone, words_in
-from tests.things import LARGEST, called_safely, in_list, in_tuple, nested, not_whole, strange_things
-
-CARDS = 4
-HANDS = 3
-PILE = 3
-
-HOLDS = ("holds", 0, 1)
-SEES = ("sees", 2)
-
-
-def deny(saying):
-    return ("not", saying)
-
-
-def both(saying):
-    return ("and", saying, saying)
-
-
-def chained(word, parts):
-    """So many sayings bound into one by a word between each two."""
-    saying = HOLDS
-    for _ in range(parts - 1):
-        saying = (word, HOLDS, saying)
-    return saying
-
-
-def one_of_each():
-    """Each of the eight forms, with how many words it has and whether it is of cards alone."""
-    return [
-        (HOLDS, 1, True),
-        (SEES, 1, False),
-        (("not", HOLDS), 2, True),
-        (("and", HOLDS, ("holds", PILE, 0)), 3, True),
-        (("or", HOLDS, ("holds", 2, 3)), 3, True),
-        (("knows", 1, HOLDS), 2, False),
-        (("all", (0, 2), HOLDS), 2, False),
-        (("common", (0, 1, 2), HOLDS), 2, False),
-    ]
-
-
-def built_of(saying, words, alone):
-    """Each form that can hold another, round the one handed in."""
-    return [
-        (("not", saying), words + 1, alone),
-        (("and", saying, HOLDS), words + 2, alone),
-        (("and", HOLDS, saying), words + 2, alone),
-        (("and", SEES, saying), words + 2, False),
-        (("and", saying, saying), 2 * words + 1, alone),
-        (("or", saying, HOLDS), words + 2, alone),
-        (("or", saying, SEES), words + 2, False),
-        (("or", HOLDS, saying), words + 2, alone),
-        (("knows", 0, saying), words + 1, False),
-        (("all", (), saying), words + 1, False),
-        (("common", (1,), saying), words + 1, False),
-    ]
-
-
-def built_sayings():
-    """Sayings of up to three layers built round one of each."""
-    layer = one_of_each()
-    every = list(layer)
-    for _ in range(3):
-        layer = [built for one in layer for built in built_of(*one)]
-        every.extend(layer)
-    return every
-
+from tests.things import (CARDS, HANDS, HOLDS, LARGEST, PILE, SEES, both, built_sayings, called_safely, chained,
+                          deny, in_list, in_tuple, nested, not_whole, strange_things)
 
 class SayingCase(unittest.TestCase):
     def check(self, expected, *sayings):

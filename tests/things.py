@@ -1,8 +1,17 @@
-"""What several tests need: things of strange kinds, and a check that a call changes nothing."""
+"""What several tests need: things of strange kinds, sayings, views, and a check that a call changes nothing."""
 
 import copy
+import inspect
 
 LARGEST = 10 ** 60 - 1
+
+# What the tests of sayings are about, unless they say otherwise: four cards, three hands.
+CARDS = 4
+HANDS = 3
+PILE = 3
+
+HOLDS = ("holds", 0, 1)
+SEES = ("sees", 2)
 
 
 def nested(wrap, core, times):
@@ -47,3 +56,96 @@ def called_safely(case, function, *handed):
         return function(*handed)
     finally:
         case.assertEqual(handed, before)
+
+
+def deny(saying):
+    return ("not", saying)
+
+
+def both(saying):
+    return ("and", saying, saying)
+
+
+def chained(word, parts):
+    """So many sayings bound into one by a word between each two."""
+    saying = HOLDS
+    for _ in range(parts - 1):
+        saying = (word, HOLDS, saying)
+    return saying
+
+
+def one_of_each():
+    """Each of the eight forms, with how many words it has and whether it is of cards alone."""
+    return [
+        (HOLDS, 1, True),
+        (SEES, 1, False),
+        (("not", HOLDS), 2, True),
+        (("and", HOLDS, ("holds", PILE, 0)), 3, True),
+        (("or", HOLDS, ("holds", 2, 3)), 3, True),
+        (("knows", 1, HOLDS), 2, False),
+        (("all", (0, 2), HOLDS), 2, False),
+        (("common", (0, 1, 2), HOLDS), 2, False),
+    ]
+
+
+def built_of(saying, words, alone):
+    """Each form that can hold another, round the one handed in."""
+    return [
+        (("not", saying), words + 1, alone),
+        (("and", saying, HOLDS), words + 2, alone),
+        (("and", HOLDS, saying), words + 2, alone),
+        (("and", SEES, saying), words + 2, False),
+        (("and", saying, saying), 2 * words + 1, alone),
+        (("or", saying, HOLDS), words + 2, alone),
+        (("or", saying, SEES), words + 2, False),
+        (("or", HOLDS, saying), words + 2, alone),
+        (("knows", 0, saying), words + 1, False),
+        (("all", (), saying), words + 1, False),
+        (("common", (1,), saying), words + 1, False),
+    ]
+
+
+def built_sayings():
+    """Sayings of up to three layers built round one of each."""
+    layer = one_of_each()
+    every = list(layer)
+    for _ in range(3):
+        layer = [built for one in layer for built in built_of(*one)]
+        every.extend(layer)
+    return every
+
+
+def view_of(marks):
+    """The view in which those look alike that bear the same mark."""
+    return [marks.index(mark) for mark in marks]
+
+
+def chance_view(chance, many, marks):
+    """Any view of so many things, with at most so many kinds of them."""
+    return view_of([chance.randrange(marks) for _ in range(many)])
+
+
+def chance_views(chance, many, count):
+    return [chance_view(chance, many, chance.randint(1, many + 1)) for _ in range(count)]
+
+
+def winding_views(many):
+    """Two views by which the things make one long row: each looks alike to the next by the one or by the other."""
+    return [view_of([thing // 2 for thing in range(many)]), view_of([(thing + 1) // 2 for thing in range(many)])]
+
+
+def reached_from(views, thing):
+    """All things to which a road leads, found by walking on until nothing comes anew."""
+    found = {thing}
+    while True:
+        more = set()
+        for view in views:
+            marks = {view[one] for one in found}
+            more |= {other for other, mark in enumerate(view) if mark in marks}
+        if more <= found:
+            return found
+        found |= more
+
+
+def arguments(function):
+    return list(inspect.signature(function).parameters)
