@@ -29,6 +29,9 @@ METHODS = """append clear copy count endswith extend find get index insert isaln
 WORDS = """type typing typing_extensions enum Enum IntEnum StrEnum Flag IntFlag Generic Protocol ABC ABCMeta
     namedtuple NamedTuple TypedDict TYPE_CHECKING abstractmethod""".split()
 PARTS = "dataclass overload contextmanager".split()
+# L26: what Python's own values have, but for the names that a value of an object may have all the same.
+TAKEN = sorted({name for kind in (str, int, list, tuple, dict, set, bytes) for name in dir(kind)}
+               - set("count index title find get join lower upper split strip copy add".split())) + ["args"]
 
 
 def sources():
@@ -65,6 +68,41 @@ def bound_names(tree):
         if isinstance(node, ast.Name) and isinstance(node.ctx, ast.Store):
             names.append(node.id)
     return names
+
+
+def classes_of(tree):
+    return [row for row in tree.body if isinstance(row, ast.ClassDef)]
+
+
+def values_of(tree):
+    """The names of the values that a file gives to objects."""
+    return [node.attr for node in ast.walk(tree) if isinstance(node, ast.Attribute) and isinstance(node.ctx, ast.Store)]
+
+
+def imported_names(tree):
+    return [alias.asname or alias.name for row in tree.body if isinstance(row, ast.ImportFrom) for alias in row.names]
+
+
+def names_within(tree):
+    """Every parameter and local of a file's functions."""
+    found = []
+    for node in ast.walk(tree):
+        if isinstance(node, (ast.FunctionDef, ast.Lambda)):
+            found.extend(one.arg for one in ast.walk(node) if isinstance(one, ast.arg))
+            found.extend(one.id for one in ast.walk(node) if isinstance(one, ast.Name) and isinstance(one.ctx, ast.Store))
+    return found
+
+
+def is_set(node):
+    return isinstance(node, ast.Set) or (isinstance(node, ast.Call) and isinstance(node.func, ast.Name)
+                                         and node.func.id in ("set", "frozenset"))
+
+
+def may_hold_a_set(node):
+    """Whether a set may stand straight in this place: L24."""
+    if isinstance(node, (ast.Compare, ast.BinOp)):
+        return True
+    return isinstance(node, ast.Call) and isinstance(node.func, ast.Name) and node.func.id in ("len", "sorted")
 
 
 def drawn_from(tree):
@@ -159,11 +197,36 @@ class LanguageTest(unittest.TestCase):
         for path, tree in self.trees.items():
             bound = bound_names(tree)
             for name in bound:
-                self.assertRegex(name, r"^[A-Za-z][A-Za-z0-9_]*$" if name not in UNDERSCORED else r"", path)
+                if name not in UNDERSCORED:
+                    self.assertRegex(name, r"^[A-Za-z][A-Za-z0-9_]*$", path)
                 self.assertNotIn(name, dir(builtins), path)
             for node in ast.walk(tree):
                 if isinstance(node, ast.Name) and isinstance(node.ctx, ast.Load):
                     self.assertIn(node.id, bound + OWN_NAMES, (path, node.lineno))
+
+    def test_no_parameter_or_local_is_called_like_a_class_or_an_import(self):
+        for path, tree in self.trees.items():
+            taken = imported_names(tree) + [row.name for row in classes_of(tree)]
+            self.assertEqual([name for name in names_within(tree) if name in taken], [], path)
+
+    def test_classes(self):
+        methods = []
+        for path, tree in self.trees.items():
+            for row in classes_of(tree):
+                self.assertLessEqual(len(row.bases), 1, path)
+                own = [part.name for part in row.body if isinstance(part, ast.FunctionDef)]
+                self.assertEqual(len(own), len(set(own)), path)
+                self.assertTrue(all(isinstance(part, (ast.FunctionDef, ast.Pass)) for part in row.body), path)
+                methods.extend(own)
+        for path, tree in self.trees.items():
+            self.assertEqual([name for name in values_of(tree) if name in methods + TAKEN], [], path)
+
+    def test_sets_are_not_kept(self):
+        for path, tree in self.trees.items():
+            for node in ast.walk(tree):
+                for child in ast.iter_child_nodes(node):
+                    if is_set(child):
+                        self.assertTrue(may_hold_a_set(node), (path, child.lineno))
 
     def test_methods(self):
         own = [name for tree in self.trees.values() for name in bound_names(tree)]

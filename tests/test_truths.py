@@ -3,39 +3,11 @@
 import random
 import unittest
 
-from knowcards.packs import cards_of, deals_of
+from knowcards.packs import deals_of
 from knowcards.truths import truths_of
 from knowcards.views import first_view, split
-from tests.things import (CARDS, HANDS, HOLDS, PILE, SEES, arguments, built_sayings, called_safely, chained, chance_views,
-                          deny, nested, reached_from, view_of, winding_views)
-
-
-def true_at(deals, views, saying, deal):
-    """Point 10 word by word, for one deal."""
-    def inner(other):
-        return true_at(deals, views, saying[-1], other)
-
-    def knows(hand):
-        return all(inner(other) for other in range(len(deals)) if views[hand][other] == views[hand][deal])
-
-    word = saying[0]
-    if word == "holds":
-        return saying[2] in cards_of(deals[deal], saying[1])
-    if word == "not":
-        return not inner(deal)
-    if word == "and":
-        return true_at(deals, views, saying[1], deal) and inner(deal)
-    if word == "or":
-        return true_at(deals, views, saying[1], deal) or inner(deal)
-    if word == "knows":
-        return knows(saying[1])
-    if word == "all":
-        return all(knows(hand) for hand in saying[1])
-    if word == "common":
-        return all(inner(other) for other in reached_from([views[hand] for hand in saying[1]], deal))
-    view = views[saying[1]]
-    alike = [other for other in range(len(deals)) if view[other] == view[deal]]
-    return len({cards_of(deals[other], len(views)) for other in alike}) == 1
+from tests.things import (CARDS, HANDS, HOLDS, PILE, SEES, arguments, built_sayings, called_safely, chained, chance_saying,
+                          chance_views, deny, nested, true_at, view_of, winding_views)
 
 
 def first_views(deals, hands):
@@ -45,22 +17,6 @@ def first_views(deals, hands):
 def split_views(chance, views):
     """Each of the views split by some truths, each hand by its own."""
     return [split(view, [chance.random() < 0.5 for _ in view]) for view in views]
-
-
-def chance_saying(chance, cards, hands, layers):
-    word = chance.choice(("holds", "sees") if layers == 0 else ("not", "and", "or", "knows", "all", "common"))
-    if word == "holds" and cards > 0:
-        return (word, chance.randint(0, hands), chance.randrange(cards))
-    if word in ("holds", "sees"):
-        return ("sees", chance.randrange(hands))
-    inner = chance_saying(chance, cards, hands, layers - 1)
-    if word == "not":
-        return (word, inner)
-    if word in ("and", "or"):
-        return (word, chance_saying(chance, cards, hands, chance.randrange(layers)), inner)
-    if word == "knows":
-        return (word, chance.randrange(hands), inner)
-    return (word, tuple(sorted(chance.sample(range(hands), chance.randint(0, hands)))), inner)
 
 
 class TruthCase(unittest.TestCase):
