@@ -6,7 +6,7 @@ from knowcards.sayings import FORMS, is_saying
 # These two stand between their sayings, in brackets; the other words stand ahead of theirs.
 BETWEEN = ("and", "or")
 PILE = "pile"
-NO_HANDS = "-"
+NO_NUMBERS = "-"
 
 
 def show_saying(hands, S):
@@ -21,16 +21,16 @@ def show_part(hands, place, part):
     if place == "saying":
         return show_saying(hands, part)
     if place == "hands":
-        return show_hands(part)
+        return with_commas(part)
     if place == "holder" and part == hands:
         return PILE
     return str(part)
 
 
-def show_hands(some):
-    if len(some) == 0:
-        return NO_HANDS
-    return ",".join([str(hand) for hand in some])
+def with_commas(numbers):
+    if len(numbers) == 0:
+        return NO_NUMBERS
+    return ",".join([str(number) for number in numbers])
 
 
 def read_saying(cards, hands, text):
@@ -86,7 +86,7 @@ def read_part(hands, place, thing):
 
 
 def read_hands(word):
-    if word == NO_HANDS:
+    if word == NO_NUMBERS:
         return ()
     return tuple([read_number(part) for part in word.split(",")])
 

@@ -1,42 +1,12 @@
 """Point 20, and point 2 as far as it touches asks."""
 
-import functools
 import itertools
 import random
 import unittest
 
 from knowcards.asks import fewest, leaves
 from knowcards.tables import Table
-from tests.things import LARGEST, arguments, called_safely
-
-
-def tried_out(asks, goal, some):
-    """The fewest asks by their words: whatever ask is tried next, for each number of asks that may be asked."""
-    @functools.cache
-    def enough(deals, k):
-        if len({goal[deal] for deal in deals}) <= 1:
-            return True
-        return k > 0 and any(all(enough(frozenset(deal for deal in deals if ask[deal] is answer), k - 1)
-                                 for answer in (True, False)) for ask in asks)
-
-    for k in range(len(asks) + 1):
-        if enough(frozenset(some), k):
-            return k
-    return None
-
-
-def by_figures(figures, many):
-    """Asks for so many deals: what is each figure of the deal's number, written with twos?"""
-    return [[deal >> figure & 1 == 1 for deal in range(many)] for figure in range(figures)]
-
-
-def is_it(asked, many):
-    """Asks for so many deals: is it this one?"""
-    return [[deal == one for deal in range(many)] for one in asked]
-
-
-def chance_asks(chance, many, most):
-    return [[chance.random() < 0.5 for _ in range(many)] for _ in range(chance.randint(0, most))]
+from tests.things import LARGEST, arguments, by_figures, called_safely, chance_asks, is_it, tried_out
 
 
 class InterfaceTest(unittest.TestCase):

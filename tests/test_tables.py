@@ -10,8 +10,8 @@ from knowcards.sayings import of_cards_alone
 from knowcards.tables import Table
 from knowcards.truths import truths_of
 from knowcards.views import first_view, split
-from tests.things import (LARGEST, arguments, called_safely, chance_saying, deny, nested, not_whole, strange_things,
-                          true_at, view_of)
+from tests.things import (LARGEST, arguments, called_safely, chance_cards, chance_deed, chance_hands, chance_saying,
+                          deny, done, hands_of, nested, not_whole, standing, strange_things, true_at, view_of)
 
 PACKS = [
     (0, [0]), (0, [0, 0, 0]), (1, [0]), (1, [1]), (1, [0, 1]), (3, [1, 1]), (3, [1, 1, 1]), (3, [0, 2]), (4, [2, 1]),
@@ -47,43 +47,6 @@ class Memory:
 
     def show(self, hand, holder, some):
         return self.note((hand,), [min(set(some) & set(cards_of(deal, holder)), default=None) for deal in self.deals])
-
-
-def chance_hands(chance, hands):
-    return tuple(sorted(chance.sample(range(hands), chance.randint(0, hands))))
-
-
-def chance_cards(chance, cards):
-    return [chance.randrange(cards) for _ in range(chance.randint(0, 5))] if cards > 0 else []
-
-
-def chance_deed(chance, cards, hands, layers):
-    """A deed as the name of the method and what is handed to it."""
-    if chance.random() < 0.5:
-        return ("word", chance_hands(chance, hands), chance_saying(chance, cards, hands, chance.randint(0, layers)))
-    return ("show", chance.randrange(hands), chance.randint(0, hands), chance_cards(chance, cards))
-
-
-def done(table, deed):
-    return getattr(table, deed[0])(*deed[1:])
-
-
-def standing(table):
-    """All that a table answers, but of the sayings only a few."""
-    hands = range(hands_of(table))
-    deals = table.deals()
-    return (deals, [table.view(hand) for hand in hands],
-            [table.saw(hand, deal) for hand in hands for deal in range(len(deals))],
-            [table.truths(("all", tuple(hands), ("sees", hand))) for hand in hands],
-            [table.truths(("knows", hand, ("sees", 0))) for hand in hands])
-
-
-def hands_of(table):
-    for hands in range(1, 6):
-        try:
-            table.view(hands)
-        except NoHand:
-            return hands
 
 
 class TableCase(unittest.TestCase):

@@ -1,9 +1,11 @@
-"""What several tests need: things of strange kinds, sayings and where they are true, views, and a check that a call
-changes nothing."""
+"""What several tests need: things of strange kinds, sayings and where they are true, views, deeds at a table, asks,
+and a check that a call changes nothing."""
 
 import copy
+import functools
 import inspect
 
+from knowcards.errors import NoHand
 from knowcards.packs import cards_of
 
 LARGEST = 10 ** 60 - 1
@@ -192,6 +194,72 @@ def chance_saying(chance, cards, hands, layers):
     if word == "knows":
         return (word, chance.randrange(hands), inner)
     return (word, tuple(sorted(chance.sample(range(hands), chance.randint(0, hands)))), inner)
+
+
+def chance_hands(chance, hands):
+    return tuple(sorted(chance.sample(range(hands), chance.randint(0, hands))))
+
+
+def chance_cards(chance, cards):
+    return [chance.randrange(cards) for _ in range(chance.randint(0, 5))] if cards > 0 else []
+
+
+def chance_deed(chance, cards, hands, layers):
+    """A deed as the name of the method and what is handed to it."""
+    if chance.random() < 0.5:
+        return ("word", chance_hands(chance, hands), chance_saying(chance, cards, hands, chance.randint(0, layers)))
+    return ("show", chance.randrange(hands), chance.randint(0, hands), chance_cards(chance, cards))
+
+
+def done(table, deed):
+    return getattr(table, deed[0])(*deed[1:])
+
+
+def standing(table):
+    """All that a table answers, but of the sayings only a few."""
+    hands = range(hands_of(table))
+    deals = table.deals()
+    return (deals, [table.view(hand) for hand in hands],
+            [table.saw(hand, deal) for hand in hands for deal in range(len(deals))],
+            [table.truths(("all", tuple(hands), ("sees", hand))) for hand in hands],
+            [table.truths(("knows", hand, ("sees", 0))) for hand in hands])
+
+
+def hands_of(table):
+    for hands in range(1, 6):
+        try:
+            table.view(hands)
+        except NoHand:
+            return hands
+
+
+def tried_out(asks, goal, some):
+    """The fewest asks by their words: whatever ask is tried next, for each number of asks that may be asked."""
+    @functools.cache
+    def enough(deals, k):
+        if len({goal[deal] for deal in deals}) <= 1:
+            return True
+        return k > 0 and any(all(enough(frozenset(deal for deal in deals if ask[deal] is answer), k - 1)
+                                 for answer in (True, False)) for ask in asks)
+
+    for k in range(len(asks) + 1):
+        if enough(frozenset(some), k):
+            return k
+    return None
+
+
+def by_figures(figures, many):
+    """Asks for so many deals: what is each figure of the deal's number, written with twos?"""
+    return [[deal >> figure & 1 == 1 for deal in range(many)] for figure in range(figures)]
+
+
+def is_it(asked, many):
+    """Asks for so many deals: is it this one?"""
+    return [[deal == one for deal in range(many)] for one in asked]
+
+
+def chance_asks(chance, many, most):
+    return [[chance.random() < 0.5 for _ in range(many)] for _ in range(chance.randint(0, most))]
 
 
 def arguments(function):
